@@ -1,0 +1,1 @@
+"""Arrowties: ties turned into arrows without gaps."""
