@@ -10,7 +10,13 @@ def is_point(many, number):
     return 0 <= number < many
 
 
-def _need_point(many, number):
+def need_points(many):
+    """Refuse a wrong number of points."""
+    if not 0 <= many <= MOST_POINTS:
+        raise NoPoints(f"there can be 0 to {MOST_POINTS} points, not {many}")
+
+
+def need_point(many, number):
     """Refuse a number that is no point."""
     if not is_point(many, number):
         raise NoPoint(f"{number} is not one of {many} points")
@@ -33,20 +39,19 @@ class Net:
     """So many points and the ties between them; it never changes."""
 
     def __init__(self, many, ties):
-        if not 0 <= many <= MOST_POINTS:
-            raise NoPoints(f"a net has 0 to {MOST_POINTS} points, not {many}")
+        need_points(many)
         self.many = many
         self._rows = _rows_of(many, ties)
 
     def tied(self, one, other):
         """Tell whether two points are tied."""
-        _need_point(self.many, one)
-        _need_point(self.many, other)
+        need_point(self.many, one)
+        need_point(self.many, other)
         return other in self._rows[one]
 
     def near(self, one):
         """Give the points that are tied to a point, rising."""
-        _need_point(self.many, one)
+        need_point(self.many, one)
         return list(self._rows[one])
 
     def pairs(self):
@@ -72,7 +77,7 @@ def opposite(net):
 
 def lessened(net, point):
     """Give the net without a point; each greater point moves down by one."""
-    _need_point(net.many, point)
+    need_point(net.many, point)
     kept = [old for old in range(net.many) if old != point]
     ties = [
         (one, other)

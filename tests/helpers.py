@@ -1,4 +1,6 @@
-"""What several tests share: refusals, many nets, and a plain second way to force."""
+"""What several tests share: refusals, many nets, and plain second ways to answer."""
+
+import itertools
 
 from arrowties.errors import TieError
 from arrowties.nets import Net
@@ -100,3 +102,43 @@ def plain_chain(steps, one, other):
     for left in range(far[one] - 1, -1, -1):
         rows = [row + [b] for row in rows for b in steps[row[-1]] if far.get(b) == left]
     return min(rows)
+
+
+def plain_gaps(arrows):
+    """All pairs of pairs gone through."""
+    told = set(arrows)
+    return sorted({(a, b, c) for a, b in arrows for start, c in arrows
+                   if start == b and (a, c) not in told})
+
+
+def plain_fits(ties, arrows):
+    """Each part of point 10 by itself."""
+    counts = [arrows.count((a, b)) + arrows.count((b, a)) for a, b in ties]
+    strange = [(a, b) for a, b in arrows if (a, b) not in ties and (b, a) not in ties]
+    return counts == [1] * len(ties) and not strange and not plain_gaps(arrows)
+
+
+def every_turning(ties):
+    """Each way to make one arrow of each tie."""
+    return [list(arrows) for arrows in
+            itertools.product(*[((a, b), (b, a)) for a, b in ties])]
+
+
+def plain_rows(many, arrows):
+    """All rows of points along arrows that don't lead round."""
+    rows = []
+    grown = [[point] for point in range(many)]
+    while grown:
+        rows += grown
+        grown = [row + [b] for row in grown for a, b in sorted(set(arrows)) if a == row[-1]]
+    return rows
+
+
+def leads_round(many, arrows):
+    """Points that no arrow leaves are taken off, until none is left or none can be."""
+    left = set(range(many))
+    while True:
+        ends = {a for a in left if not any((a, b) in arrows for b in left)}
+        if not ends:
+            return bool(left)
+        left -= ends

@@ -3,7 +3,7 @@
 import inspect
 import unittest
 
-from arrowties import errors, forcing, nets
+from arrowties import colours, errors, forcing, heights, nets, turning
 
 FUNCTIONS = (
     (nets, "opposite", ["net"]),
@@ -11,6 +11,12 @@ FUNCTIONS = (
     (forcing, "forced", ["net", "arrow"]),
     (forcing, "led", ["net", "arrow"]),
     (forcing, "chain", ["net", "one", "other"]),
+    (turning, "gaps", ["arrows"]),
+    (turning, "fits", ["net", "arrows"]),
+    (turning, "turned", ["net"]),
+    (heights, "heights", ["many", "arrows"]),
+    (heights, "longest", ["many", "arrows"]),
+    (colours, "coloured", ["net"]),
 )
 METHODS = (
     ("__init__", ["self", "many", "ties"]),
@@ -50,6 +56,12 @@ class Interface(unittest.TestCase):
         self.assertEqual(forcing.forced(net=net, arrow=(0, 1)), [(2, 1)])
         self.assertEqual(forcing.led(net=net, arrow=(0, 1)), [(0, 1), (2, 1)])
         self.assertEqual(forcing.chain(net=net, one=(0, 1), other=(2, 1)), [(0, 1), (2, 1)])
+        self.assertEqual(turning.gaps(arrows=[(0, 1), (1, 2)]), [(0, 1, 2)])
+        self.assertIs(turning.fits(net=net, arrows=[(0, 1), (2, 1)]), True)
+        self.assertIs(turning.turned(net=net)[0], True)
+        self.assertEqual(heights.heights(many=3, arrows=[(2, 0)]), [2, 1, 1])
+        self.assertEqual(heights.longest(many=3, arrows=[(2, 0)]), [2, 0])
+        self.assertEqual(len(colours.coloured(net=net)), 2)
 
 
 if __name__ == "__main__":
